@@ -1,0 +1,1 @@
+"""Sealed-bid timber auctions and contract billing."""

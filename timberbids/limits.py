@@ -1,0 +1,29 @@
+"""The error codes and the limits of the document."""
+
+OUT_OF_RANGE = -1
+MISSING = -3
+ALREADY_DONE = -8
+NOT_POSSIBLE = -4
+FULL = -9
+
+GRADES = 10
+BIDDERS = 16
+
+MAX_DAY = 99999
+MAX_RULE = 1
+MAX_ADVANCE = 1000
+MAX_RESERVE = 1000000000
+MAX_VOLUME = 1000000
+MAX_PRICE = 1000000
+MAX_BIDDER = 15
+MAX_LIMIT = 12
+MIN_WEIGHT = 1
+MAX_WEIGHT = 1000
+BIDDER_ROW_LENGTHS = (2, 4, 6, 8)
+
+MAX_LOTS = 10
+MAX_BIDS = 12
+MAX_CONTRACTS = 24
+
+# Reserve prices are told in cents, values in millicents.
+MILLICENTS = 1000
