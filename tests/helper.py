@@ -54,6 +54,61 @@ def award():
     return [10]
 
 
+def get_contract(contract):
+    return [11, contract]
+
+
+def set_index(day, index):
+    return [12, day, index]
+
+
+def record_delivery(contract, day, grade, volume):
+    return [13, contract, day, grade, volume]
+
+
+def correct_delivery(delivery, volume):
+    return [14, delivery, volume]
+
+
+def close_contract(contract):
+    return [15, contract]
+
+
+def contract_value(contract):
+    return [16, contract]
+
+
+def create_bill(contract):
+    return [17, contract]
+
+
+def list_bills(contract):
+    return [18, contract]
+
+
+def record_payment(bidder, amount):
+    return [19, bidder, amount]
+
+
+def balance(bidder):
+    return [20, bidder]
+
+
+def shortfall(contract):
+    return [21, contract]
+
+
+def sold(lots, bids, rule=0, advance=0, day=0):
+    """The calls of a sale that is opened and closes on the day, up to its award on the next day.
+
+    A lot is a list of volumes or, with a reserve, a tuple of both; a bid has lots, prices and bidders.
+    """
+    calls = [set_day(day), open_sale(day, rule, advance)]
+    calls += [add_lot(*lot) if isinstance(lot, tuple) else add_lot(0, lot) for lot in lots]
+    calls += [place_bid(*bid) for bid in bids]
+    return calls + [set_day(day + 1), award()]
+
+
 def request(calls):
     return [number for call in calls for number in call]
 
@@ -94,6 +149,8 @@ def picture(thing):
     """All that an object holds, to be compared."""
     if isinstance(thing, (list, tuple)):
         return [picture(part) for part in thing]
+    if isinstance(thing, dict):
+        return {name: picture(part) for name, part in thing.items()}
     if hasattr(thing, "__dict__"):
         return {name: picture(part) for name, part in vars(thing).items()}
     return thing

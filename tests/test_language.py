@@ -95,6 +95,29 @@ class Language(unittest.TestCase):
             for name in bound - {"__init__"}:
                 self.assertRegex(name, r"^[A-Za-z]\w*$", path)
 
+    def test_locals_are_not_called_like_imports_and_classes(self):
+        for path in MODULES:
+            tree = ast.parse(path.read_text())
+            taken = {node.name for node in tree.body if isinstance(node, ast.ClassDef)}
+            for node in tree.body:
+                if isinstance(node, ast.ImportFrom):
+                    taken.update(alias.name for alias in node.names)
+            for node in ast.walk(tree):
+                if isinstance(node, ast.arg):
+                    self.assertNotIn(node.arg, taken, (path, node.lineno))
+                if isinstance(node, ast.Name) and isinstance(node.ctx, ast.Store):
+                    self.assertNotIn(node.id, taken, (path, node.lineno))
+
+    def test_no_name_is_a_method_and_a_value(self):
+        methods, own_values = set(), set()
+        for path in MODULES:
+            for node in ast.walk(ast.parse(path.read_text())):
+                if isinstance(node, ast.ClassDef):
+                    methods.update(part.name for part in node.body if isinstance(part, ast.FunctionDef))
+                if isinstance(node, ast.Attribute) and isinstance(node.ctx, ast.Store):
+                    own_values.add(node.attr)
+        self.assertEqual(methods & own_values, set())
+
     def test_imports(self):
         for path in MODULES:
             tree = ast.parse(path.read_text())

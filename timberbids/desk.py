@@ -2,6 +2,8 @@
 
 from timberbids.auction import add_lot, award, best_selection, check_selection, list_bids, open_sale, place_bid
 from timberbids.auction import set_day, set_limit, threshold, withdraw_bid
+from timberbids.contracts import balance, close_contract, contract_value, correct_delivery, create_bill, get_contract
+from timberbids.contracts import list_bills, record_delivery, record_payment, set_index, shortfall
 from timberbids.records import State
 
 # How many whole numbers and how many rows each operation has, by its number.
@@ -17,7 +19,21 @@ SHAPES = (
     (0, 0),
     (1, 0),
     (0, 0),
+    (1, 0),
+    (2, 0),
+    (4, 0),
+    (2, 0),
+    (1, 0),
+    (1, 0),
+    (1, 0),
+    (1, 0),
+    (2, 0),
+    (1, 0),
+    (1, 0),
 )
+
+# The operations from this one on are about contracts, those ahead of it about sales.
+FIRST_OF_CONTRACTS = 11
 
 
 class UnknownOperation(ValueError):
@@ -46,8 +62,8 @@ class Reader:
         return self.next_numbers(self.next_number())
 
 
-def answer_call(state, operation, numbers, rows):
-    """What the operation answers, by its number in the document."""
+def answer_of_sales(state, operation, numbers, rows):
+    """What one of the operations 0 to 10 answers."""
     if operation == 0:
         return set_day(state, numbers[0])
     if operation == 1:
@@ -71,6 +87,31 @@ def answer_call(state, operation, numbers, rows):
     return award(state)
 
 
+def answer_of_contracts(state, operation, numbers):
+    """What one of the operations 11 to 21 answers."""
+    if operation == 11:
+        return get_contract(state, numbers[0])
+    if operation == 12:
+        return set_index(state, numbers[0], numbers[1])
+    if operation == 13:
+        return record_delivery(state, numbers[0], numbers[1], numbers[2], numbers[3])
+    if operation == 14:
+        return correct_delivery(state, numbers[0], numbers[1])
+    if operation == 15:
+        return close_contract(state, numbers[0])
+    if operation == 16:
+        return contract_value(state, numbers[0])
+    if operation == 17:
+        return create_bill(state, numbers[0])
+    if operation == 18:
+        return list_bills(state, numbers[0])
+    if operation == 19:
+        return record_payment(state, numbers[0], numbers[1])
+    if operation == 20:
+        return balance(state, numbers[0])
+    return shortfall(state, numbers[0])
+
+
 def answer_next(state, reader):
     """Reads one call and answers it."""
     operation = reader.next_number()
@@ -79,7 +120,9 @@ def answer_next(state, reader):
     shape = SHAPES[operation]
     numbers = reader.next_numbers(shape[0])
     rows = [reader.next_row() for row in range(shape[1])]
-    return answer_call(state, operation, numbers, rows)
+    if operation >= FIRST_OF_CONTRACTS:
+        return answer_of_contracts(state, operation, numbers)
+    return answer_of_sales(state, operation, numbers, rows)
 
 
 def answers(calls):

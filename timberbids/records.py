@@ -1,4 +1,4 @@
-"""What one request keeps: the day, the sale and the contracts."""
+"""What one request keeps: the day, the sale, the contracts and what is billed and paid."""
 
 from timberbids.limits import BIDDERS, MAX_LIMIT
 
@@ -40,6 +40,7 @@ class Contract:
     """What an award makes of a bid; factor is a fraction."""
 
     def __init__(self, bid, day, advance, factor):
+        self.value = bid.value
         self.volumes = list(bid.volumes)
         self.prices = list(bid.prices)
         self.bidders = list(bid.bidders)
@@ -49,6 +50,25 @@ class Contract:
         self.closed = False
 
 
+class Delivery:
+    """A measured volume of a grade on a day; contract is a number."""
+
+    def __init__(self, contract, day, grade, volume):
+        self.contract = contract
+        self.day = day
+        self.grade = grade
+        self.volume = volume
+
+
+class Bill:
+    """A bill; contract is a number, amounts has the bidders in the order of the bid."""
+
+    def __init__(self, contract, day, amounts):
+        self.contract = contract
+        self.day = day
+        self.amounts = amounts
+
+
 class State:
     """The one object that all calls of a request work on."""
 
@@ -56,3 +76,7 @@ class State:
         self.day = 0
         self.sale = None
         self.contracts = []
+        self.index_values = {}
+        self.deliveries = []
+        self.bills = []
+        self.paid = [0] * BIDDERS
